@@ -1,0 +1,60 @@
+"""Things to hand in, and ways to ask that watch what is handed in."""
+
+import copy
+
+
+def nested(inner, depth, kind):
+    """The inner thing within so many lists or tuples."""
+    thing = inner
+    for level in range(depth):
+        thing = kind([thing])
+    return thing
+
+
+# None of these is a whole number.
+NOT_WHOLE = (
+    True, False, None, "", "1", "a", " ", "~", [], [1], [2, 3], (), (1,), (1, 2), (0, 1),
+    nested(1, 8, list), nested(1, 8, tuple),
+)
+
+# None of these is a fraction, a machine, or a place of a machine.
+PLAIN_THINGS = (
+    True, False, None, 0, 1, -1, 10 ** 39, -(10 ** 40 - 1), "", "a", "1", "1/2", "(1, 2)", "~ {}",
+    [], (), [[]], ((),), ((), ()), ([], []), (None, None), (None,), [None] * 5, (None,) * 5,
+    (True, True), (False, True), ("1", "2"), ((1, 2), (3, 4)), ((1, 2),), [(1, 2)], [[1, 2]],
+    nested(1, 7, list), nested(1, 8, list), nested(1, 7, tuple), nested(1, 8, tuple),
+    nested((1, 2), 7, tuple), nested([1, 2], 7, list), (nested(1, 7, tuple), 1), (1, nested(1, 7, list)),
+    [1] * 499, (1,) * 499, ["a"] * 499, "a" * 1500, tuple("abcde"), "abcde", (1, 2, 3, 4), (1, 2, 3, 4, 5),
+)
+
+
+def with_one_changed(row, at, thing):
+    return row[:at] + (thing,) + row[at + 1:]
+
+
+def with_one_less(row, at):
+    return row[:at] + row[at + 1:]
+
+
+def with_one_more(row, at, thing):
+    return row[:at] + (thing,) + row[at:]
+
+
+def asked_twice(case, function, *things):
+    """What the function tells both times; the things stay as they are, down to their kinds."""
+    before = copy.deepcopy(things)
+    first = function(*things)
+    second = function(*things)
+    case.assertEqual(repr(first), repr(second))
+    case.assertEqual(repr(things), repr(before))
+    return first
+
+
+def refused_twice(case, error, function, *things):
+    """The function refuses both times with the very class; the things stay as they are."""
+    before = copy.deepcopy(things)
+    for turn in range(2):
+        with case.assertRaises(error) as caught:
+            function(*things)
+        case.assertIs(type(caught.exception), error)
+    case.assertEqual(repr(things), repr(before))
