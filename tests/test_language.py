@@ -179,6 +179,16 @@ class Language(unittest.TestCase):
             if isinstance(node, ast.Name) and node.id in dir(builtins):
                 self.assertIn(node.id, BUILTINS, where)
 
+    def test_no_name_in_a_function_is_that_of_an_import_or_a_class(self):
+        for path, tree in self.trees.items():
+            tops = [node for node in tree.body if isinstance(node, ast.ClassDef)]
+            tops += [alias for node in tree.body if isinstance(node, ast.ImportFrom) for alias in node.names]
+            taken = {name for node in tops for name in names_bound_by(node)}
+            for node in ast.walk(tree):
+                if isinstance(node, (ast.arg, ast.Name, ast.ExceptHandler)):
+                    where = f"{path.name}:{node.lineno}"
+                    self.assertEqual(taken.intersection(names_bound_by(node)), set(), where)
+
     def test_methods_and_attributes(self):
         own_methods, set_attributes = set(), set()
         for where, node in self.nodes():

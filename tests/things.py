@@ -17,7 +17,7 @@ NOT_WHOLE = (
     nested(1, 8, list), nested(1, 8, tuple),
 )
 
-# None of these is a fraction, a machine, or a place of a machine.
+# None of these is a fraction, a machine, a place or an item of a machine.
 PLAIN_THINGS = (
     True, False, None, 0, 1, -1, 10 ** 39, -(10 ** 40 - 1), "", "a", "1", "1/2", "(1, 2)", "~ {}",
     [], (), [[]], ((),), ((), ()), ([], []), (None, None), (None,), [None] * 5, (None,) * 5,
@@ -51,10 +51,27 @@ def asked_twice(case, function, *things):
 
 
 def refused_twice(case, error, function, *things):
-    """The function refuses both times with the very class; the things stay as they are."""
+    """The two refusals, both of the very class; the things stay as they are."""
     before = copy.deepcopy(things)
+    refusals = []
     for turn in range(2):
         with case.assertRaises(error) as caught:
             function(*things)
         case.assertIs(type(caught.exception), error)
+        refusals.append(caught.exception)
     case.assertEqual(repr(things), repr(before))
+    return refusals
+
+
+def list_of_its_own(case, function, *things):
+    """The list that the function tells; whatever is done to it, the same one is told again."""
+    first = asked_twice(case, function, *things)
+    case.assertIs(type(first), list)
+    expected = copy.deepcopy(first)
+    kept = function(*things)
+    for spoil in (list.clear, list.reverse, lambda row: row.append("more"), lambda row: row.__setitem__(slice(1), [0])):
+        told = function(*things)
+        spoil(told)
+        case.assertEqual(repr(function(*things)), repr(expected))
+    case.assertEqual(repr(kept), repr(expected))
+    return expected
