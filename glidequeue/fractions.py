@@ -3,6 +3,8 @@
 from glidequeue.errors import NoFraction
 from glidequeue.wholes import is_whole
 
+NOUGHT = (0, 1)
+
 
 def is_fraction(thing):
     if not isinstance(thing, tuple) or len(thing) != 2:
@@ -25,6 +27,10 @@ def plus(one, other):
     p, q = one
     r, s = other
     return lowest_terms(p * s + r * q, q * s)
+
+
+def plus_whole(one, more):
+    return plus(one, (more, 1))
 
 
 def minus(one, other):

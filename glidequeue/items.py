@@ -35,8 +35,12 @@ def ends(machine, place, items):
     return told
 
 
+def is_line(item):
+    return item[0] == "line"
+
+
 def place_behind(place, item):
-    if item[0] != "line":
+    if not is_line(item):
         return place
     return tuple([number + step for number, step in zip(place, item[1])])
 
