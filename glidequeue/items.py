@@ -40,9 +40,11 @@ def is_line(item):
 
 
 def place_behind(place, item):
-    if not is_line(item):
-        return place
-    return tuple([number + step for number, step in zip(place, item[1])])
+    return moved(place, item[1]) if is_line(item) else place
+
+
+def moved(place, steps):
+    return tuple([number + step for number, step in zip(place, steps)])
 
 
 def are_steps(machine, thing):

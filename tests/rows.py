@@ -116,5 +116,38 @@ def straight_rows():
     return tuple(told)
 
 
-def rows_of_all_sorts(seed, count):
-    return chance_rows(seed, count) + straight_rows()
+def rows_of_all_sorts(seed, count, every=1):
+    """Chance rows, and of the straight ones each first of so many."""
+    return chance_rows(seed, count) + straight_rows()[::every]
+
+
+def chance_place(source, machine):
+    return tuple(source.randrange(rail + 1) for rail in machine[0])
+
+
+def line_between(place, other, speed):
+    return ("line", tuple(b - a for a, b in zip(place, other)), speed)
+
+
+def chance_item_from(source, machine, place, lines=0.8):
+    """An item that leads on from the place along the rails, and the place behind it."""
+    if source.random() < lines:
+        near = source.choice((1, 2, 5, 100))
+        other = tuple(min(rail, max(0, number + source.randrange(-near, near + 1)))
+                      for number, rail in zip(place, machine[0]))
+        if other != place:
+            return line_between(place, other, source.choice((1, 20, source.randrange(1, 21)))), other
+    return source.choice(SHORT_ITEMS), place
+
+
+def chance_walk(source, machine, place, count, lines=0.8):
+    """A row of so many items along the rails from the place, their leads within three hundred."""
+    items = []
+    while len(items) < count:
+        item, behind = chance_item_from(source, machine, place, lines)
+        if leads_of(items) + leads_of([item]) <= MOST_LEADS:
+            items.append(item)
+            place = behind
+        else:
+            items.append(source.choice(SHORT_ITEMS))
+    return tuple(items)

@@ -155,6 +155,10 @@ class Language(unittest.TestCase):
                         self.assertTrue(isinstance(right, ast.Constant) and right.value in (None, True, False), where)
             if isinstance(node, ast.ExceptHandler):
                 self.assertIsNotNone(node.type, where)
+            if isinstance(node, ast.FormattedValue):
+                self.assertIsNone(node.format_spec, where)
+            if isinstance(node, ast.Starred):
+                self.assertIsInstance(node.ctx, ast.Store, where)
 
     def test_functions_and_classes_are_plain(self):
         for where, node in self.nodes():
