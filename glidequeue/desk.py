@@ -5,7 +5,9 @@ from glidequeue.items import GREATEST_SPEED
 from glidequeue.machines import is_machine, is_place
 from glidequeue.plans import plan_of
 from glidequeue.runner import Runner
-from glidequeue.texts import item_in, number_in, numbers_in, show_entry, show_fraction, show_items, show_numbers
+from glidequeue.texts import (
+    item_in, number_in, numbers_in, show_entry, show_fraction, show_items, show_number, show_numbers,
+)
 from glidequeue.wholes import is_whole_within
 
 MOST_ENTRIES = 100
@@ -13,15 +15,15 @@ NOTHING = "none"
 
 
 def answer_hold(runner):
-    return str(runner.hold())
+    return show_number(runner.hold())
 
 
 def answer_go(runner):
-    return str(runner.go())
+    return show_number(runner.go())
 
 
 def answer_drop(runner):
-    return str(runner.drop())
+    return show_number(runner.drop())
 
 
 def answer_place(runner):
@@ -33,7 +35,7 @@ def answer_square(runner):
 
 
 def answer_stop(runner):
-    return str(runner.stops_in())
+    return show_number(runner.stops_in())
 
 
 def answer_waits(runner):
@@ -101,7 +103,7 @@ class Desk:
         item = item_in(self.machine, text)
         if item is None:
             raise NoLine("the text is no row that a desk can be told")
-        return str(self.runner.feed(item))
+        return show_number(self.runner.feed(item))
 
     def say_to(self, words):
         numbers = numbers_in(words)
@@ -109,7 +111,7 @@ class Desk:
         if not is_place(self.machine, place) or not is_whole_within(numbers[-1], 1, GREATEST_SPEED):
             raise NoLine("behind to come a place and a speed")
         steps = tuple([number - begun for number, begun in zip(place, self.runner.leads_to())])
-        return str(self.runner.feed(("line", steps, numbers[-1])))
+        return show_number(self.runner.feed(("line", steps, numbers[-1])))
 
     def say_steps(self, words):
         number = only_number(words)
@@ -121,7 +123,7 @@ class Desk:
         number = only_number(words)
         if number is None:
             raise NoLine("behind rate comes a number")
-        return str(self.runner.turn_rate(number))
+        return show_number(self.runner.turn_rate(number))
 
 
 def only_number(words):

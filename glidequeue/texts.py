@@ -5,23 +5,37 @@ from glidequeue.items import is_item, is_line
 
 MOST_ITEMS = 20
 FIGURES = "0123456789"
+PART_FIGURES = 64
+PART = 10 ** 64
+
+
+def show_number(number):
+    # Python refuses to write a long number at once, so it is written in parts.
+    rest = abs(number)
+    parts = []
+    while rest >= PART:
+        rest, low = divmod(rest, PART)
+        parts.append(str(low).zfill(PART_FIGURES))
+    parts.append(str(rest))
+    written = "".join(reversed(parts))
+    return f"-{written}" if number < 0 else written
+
+
+def show_numbers(numbers):
+    return " ".join([show_number(number) for number in numbers])
 
 
 def show_fraction(one):
     p, q = one
-    return str(p) if q == 1 else f"{p}/{q}"
-
-
-def show_numbers(numbers):
-    return " ".join([str(number) for number in numbers])
+    return show_number(p) if q == 1 else f"{show_number(p)}/{show_number(q)}"
 
 
 def show_item(item):
     if is_line(item):
         word, steps, speed = item
-        return f"{word} {show_numbers(steps)} {speed}"
+        return f"{word} {show_numbers(steps)} {show_number(speed)}"
     word, value = item
-    return f"{word} {value}"
+    return f"{word} {show_number(value)}" if word == "wait" else f"{word} {value}"
 
 
 def show_items(items):
@@ -32,7 +46,7 @@ def show_entry(entry):
     if entry[0] != "step":
         return show_item(entry)
     word, row, t, square = entry
-    return f"{word} {show_numbers(row)} {t} {show_fraction(square)}"
+    return f"{word} {show_numbers(row)} {show_number(t)} {show_fraction(square)}"
 
 
 def read_items(machine, text):
@@ -73,4 +87,13 @@ def number_in(word):
     # A nought comes first in no number but 0, which has no sign.
     if figures[0] == "0" and word != "0":
         return None
-    return int(word)
+    size = size_of(figures)
+    return -size if word.startswith("-") else size
+
+
+def size_of(figures):
+    """The whole number from 0 on that the figures write, however many they are."""
+    size = 0
+    for figure in figures:
+        size = 10 * size + int(figure)
+    return size

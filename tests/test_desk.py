@@ -14,7 +14,9 @@ from models import NUMBER, ModelRunner, words_of, writes_item
 from rows import (
     DEEP, FLAT, MACHINES, SHORT_ITEMS, chance_item_from, chance_machine, chance_place, chance_walk, line_between,
 )
-from things import NOT_WHOLE, PLAIN_THINGS, nested, refused_twice, with_one_changed, with_one_less, with_one_more
+from things import (
+    NOT_WHOLE, PLAIN_THINGS, figures_at_once, nested, refused_twice, with_one_changed, with_one_less, with_one_more,
+)
 
 WIDE = ((100, 100), 3, 4, 5, 60)
 QUESTIONS = ("place", "square", "stop", "waits", "plan", "tool", "mark", "state")
@@ -358,6 +360,18 @@ class Refused(DeskCase):
             for number in (0, 1, 9, 201, 1000, -1, -10, -100, 10 ** 39, -(10 ** 39), 10 ** 1490, 1 - 10 ** 1490):
                 self.refuses(desk, NoRate, f"rate {number}")
 
+    def test_long_numbers(self):
+        for most in (640, 4300):
+            with figures_at_once(most):
+                for figures in ("1" * 641, "9" * 1490, "5" * 4301):
+                    for desk in self.desks():
+                        self.refuses(desk, NoRate, f"rate {figures}")
+                        self.refuses(desk, NoRate, f"rate -{figures}")
+                        self.refuses(desk, NoLine, f"steps {figures}")
+                        self.refuses(desk, NoLine, f"to 1 {figures} 5")
+                        self.refuses(desk, NoLine, f"to 1 2 {figures}")
+                        self.refuses(desk, NoLine, f"wait {figures}")
+
     def test_the_refusals_of_the_runner(self):
         desk = Desk(FLAT, (1, 2))
         for refusal in self.refuses(desk, OffRails, "line 10 0 5"):
@@ -391,6 +405,54 @@ class Refused(DeskCase):
                     changed += [text[:at] + sign + text[at:], text[:at] + sign + text[at + 1:]]
                 for other in changed:
                     self.answers_as_due(Desk(FLAT, (1, 2)), ModelDesk(FLAT, (1, 2)), other)
+
+
+class LongSquares(DeskCase):
+    """A desk that is held and let go on again and again: the figures of its square grow with each hold."""
+
+    MACHINE = ((100, 100), 1, 1, 50, 100)
+    ROUND = ("line 100 0 20", "line 0 100 20", "line -100 0 20", "line 0 -100 20")
+
+    def both_say(self, text):
+        """The answer of the desk, held against the model's, which alone may write numbers of any length at once."""
+        with figures_at_once(0):
+            expected = self.model.say(text)
+        told = self.desk.say(text)
+        self.assertTrue(told == expected, (text, told[:100], expected[:100]))
+        self.assertIs(type(told), str)
+        return told
+
+    def hold_and_go_on(self, times):
+        self.desk, self.model = Desk(self.MACHINE, (0, 0)), ModelDesk(self.MACHINE, (0, 0))
+        self.both_say("rate 199")
+        for number in range(20):
+            self.both_say(self.ROUND[number % 4])
+        for number in range(8):
+            self.both_say("steps 100")
+        # Below the top square first: from just there each free step would lead back to it.
+        for text in ("hold", "steps 1", "go"):
+            self.both_say(text)
+        for number in range(times):
+            if number % 50 == 0:
+                self.both_say(self.ROUND[number // 50 % 4])
+            for text in ("hold", "square", "stop", "steps 1", "state", "go", "steps 1"):
+                self.both_say(text)
+
+    def tells_all(self, least_figures):
+        before = self.both_say("square")
+        upper, slash, lower = before.partition("/")
+        self.assertGreater(min(len(upper), len(lower)), least_figures)
+        for text in QUESTIONS + ("steps 3", "hold", "steps 5", "square", "stop", "steps 100", "go", "steps 100"):
+            self.both_say(text)
+
+    def test_squares_of_some_figures(self):
+        self.hold_and_go_on(20)
+        self.tells_all(40)
+
+    def test_squares_of_more_figures_than_python_writes_at_once(self):
+        with figures_at_once(640):
+            self.hold_and_go_on(250)
+            self.tells_all(640)
 
 
 EVENLY = ("item", "item", "to", "steps", "steps", "hold", "go", "go", "drop", "rate", "none")

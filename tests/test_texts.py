@@ -10,7 +10,7 @@ from glidequeue.tapes import tape_of
 from glidequeue.texts import read_items, show_entry, show_fraction, show_items
 from models import words_of, writes_item
 from rows import DEEP, FLAT, MACHINES, SHORT_ITEMS, as_tuple, chance_rows
-from things import NOT_WHOLE, PLAIN_THINGS, asked_twice, nested, refused_twice
+from things import NOT_WHOLE, PLAIN_THINGS, asked_twice, figures_at_once, nested, refused_twice
 
 ROW = (("line", (3, -2), 5), ("wait", 10), ("tool", "up"), ("mark", "ab"), ("line", (0, -100), 20), ("tool", "down"))
 TEXT = "line 3 -2 5\nwait 10\ntool up\nmark ab\nline 0 -100 20\ntool down"
@@ -81,6 +81,44 @@ class Shown(unittest.TestCase):
                 self.shows(show_entry, entry, text)
 
 
+class LongNumbers(unittest.TestCase):
+    """What is told has as many figures as it needs, however few Python itself writes at once."""
+
+    def numbers(self):
+        source = random.Random(244)
+        for count in (39, 40, 41, 63, 64, 65, 127, 128, 129, 639, 640, 641, 1280, 4299, 4300, 4301, 5000, 20000):
+            for number in (10 ** count, 10 ** count - 1, 10 ** count + 1, 10 ** count - 10 ** (count // 2),
+                           10 ** count + 10 ** 64, source.randrange(10 ** (count - 1), 10 ** count)):
+                yield number
+                yield -number
+
+    def shows(self, function, thing, words):
+        """The words, those that are no texts written by Python, with one blank between."""
+        with figures_at_once(0):
+            expected = " ".join(str(word) for word in words)
+        for most in (640, 4300):
+            with figures_at_once(most):
+                told = function(thing)
+            # Not by assertEqual: it would show both texts, whatever their length.
+            self.assertTrue(told == expected, (len(told), len(expected)))
+            self.assertIs(type(told), str)
+
+    def test_upper_numbers(self):
+        for number in self.numbers():
+            self.shows(show_fraction, (number, 1), [number])
+
+    def test_both_numbers(self):
+        for number in self.numbers():
+            self.shows(show_fraction, as_tuple(Fraction(number, abs(number) + 1)), [Fraction(number, abs(number) + 1)])
+            self.shows(show_fraction, as_tuple(Fraction(1, abs(number))), [Fraction(1, abs(number))])
+
+    def test_entries(self):
+        for number in self.numbers():
+            square = Fraction(abs(number) + 1, abs(number))
+            self.shows(show_entry, ("step", (1, -1), 61, as_tuple(square)), ["step 1 -1 61", square])
+            self.shows(show_entry, ("step", (1, 0, 0), abs(number), (7, 2)), ["step 1 0 0", abs(number), "7/2"])
+
+
 class Read(unittest.TestCase):
 
     def reads(self, machine, text, items):
@@ -142,6 +180,14 @@ class Read(unittest.TestCase):
             self.refuses(FLAT, "wait 5\n" + text, 1)
             self.refuses(FLAT, TEXT + "\n" + text, 6)
             self.assertEqual(expected_at(FLAT, text), 0, text)
+
+    def test_long_numbers(self):
+        for most in (640, 4300):
+            with figures_at_once(most):
+                for figures in ("1" * 641, "9" * 1400, "5" * 4301):
+                    for text in (f"wait {figures}", f"wait -{figures}", f"line 1 {figures} 5", f"line 1 2 {figures}"):
+                        self.refuses(FLAT, text, 0)
+                        self.refuses(FLAT, "wait 5\n" + text, 1)
 
     def test_empty_rows_and_line_ends(self):
         self.refuses(FLAT, TEXT + "\n", 6)

@@ -1,6 +1,8 @@
 """Things to hand in, and ways to ask that watch what is handed in."""
 
 import copy
+import sys
+from contextlib import contextmanager
 
 
 def nested(inner, depth, kind):
@@ -26,6 +28,17 @@ PLAIN_THINGS = (
     nested((1, 2), 7, tuple), nested([1, 2], 7, list), (nested(1, 7, tuple), 1), (1, nested(1, 7, list)),
     [1] * 499, (1,) * 499, ["a"] * 499, "a" * 1500, tuple("abcde"), "abcde", (1, 2, 3, 4), (1, 2, 3, 4, 5),
 )
+
+
+@contextmanager
+def figures_at_once(most):
+    """Meanwhile Python itself writes and reads numbers of at most so many figures, or any ones where that is 0."""
+    before = sys.get_int_max_str_digits()
+    sys.set_int_max_str_digits(most)
+    try:
+        yield
+    finally:
+        sys.set_int_max_str_digits(before)
 
 
 def with_one_changed(row, at, thing):
