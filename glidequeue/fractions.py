@@ -30,7 +30,9 @@ def plus(one, other):
 
 
 def plus_whole(one, more):
-    return plus(one, (more, 1))
+    p, q = one
+    # A common divisor of these two would be one of p and q, too.
+    return (p + more * q, q)
 
 
 def minus(one, other):
@@ -40,9 +42,10 @@ def minus(one, other):
 
 
 def times(one, other):
-    p, q = one
-    r, s = other
-    return lowest_terms(p * r, q * s)
+    # Only crosswise can there be a common divisor, and with one short number of the two it is soon found.
+    p, s = lowest_terms(one[0], other[1])
+    r, q = lowest_terms(other[0], one[1])
+    return (p * r, q * s)
 
 
 def is_less(one, other):

@@ -6,7 +6,7 @@ from fractions import Fraction
 from math import gcd
 
 from glidequeue.errors import NoFraction
-from glidequeue.fractions import fraction, is_fraction, is_less, least, minus, plus, times
+from glidequeue.fractions import fraction, is_fraction, is_less, least, minus, plus, plus_whole, times
 from things import (NOT_WHOLE, PLAIN_THINGS, asked_twice, nested, refused_twice, with_one_less,
                     with_one_more)
 
@@ -172,6 +172,8 @@ class Reckoning(unittest.TestCase):
         self.comes_to(plus, one, other, first + second)
         self.comes_to(minus, one, other, first - second)
         self.comes_to(times, one, other, first * second)
+        if other[1] == 1:
+            self.comes_to(plus_whole, one, other[0], first + second)
         self.assertIs(asked_twice(self, is_less, one, other), first < second, (one, other))
 
     def test_examples(self):
@@ -206,6 +208,13 @@ class Reckoning(unittest.TestCase):
         for one in some:
             for other in some:
                 self.reckon(one, other)
+
+    def test_long_ones_with_short_ones(self):
+        # Squares that are told may be of any length.
+        for long in ((2 ** 999, 3 ** 555), (-(3 ** 555), 2 ** 999), (MOST ** 9, (MOST - 1) ** 9), (6 ** 400 + 1, 6 ** 400)):
+            for short in SMALL:
+                self.reckon(long, short)
+                self.comes_to(times, short, long, Fraction(*short) * Fraction(*long))
 
     def test_neighbours(self):
         for p, q in GREAT + tuple(chance_fractions(60)):
